@@ -4,8 +4,8 @@ import random
 import unittest
 
 from lookpast import calls
-from lookpast.errors import NoPerson
 from tests import plain, samples
+from tests.cases import PersonCase
 
 
 class Called(unittest.TestCase):
@@ -93,32 +93,27 @@ class Words(unittest.TestCase):
         self.assertEqual(calls.idle_calls(samples.MIXED, [2] * 4000), [])
 
 
-class NoSuchPerson(unittest.TestCase):
-    def check(self, person, function, *arguments):
-        with self.assertRaises(NoPerson) as caught:
-            function(*arguments)
-        self.assertEqual(caught.exception.person, person)
-
+class NoSuchPerson(PersonCase):
     def test_called(self):
         for state in (samples.RING, samples.LINE, (0,), samples.ring_state(40)):
             for person in samples.strangers(state):
-                self.check(person, calls.called, state, person)
+                self.check_no_person(person, calls.called, state, person)
 
     def test_words(self):
         for function in (calls.called_all, calls.states_along, calls.idle_calls):
             for state in (samples.RING, samples.LINE, (0,), samples.ring_state(40)):
                 for person in samples.strangers(state):
-                    self.check(person, function, state, [person])
-                    self.check(person, function, state, [person, 0])
-                    self.check(person, function, state, [0, person, 0])
-                    self.check(person, function, state, [0] * 3999 + [person])
+                    self.check_no_person(person, function, state, [person])
+                    self.check_no_person(person, function, state, [person, 0])
+                    self.check_no_person(person, function, state, [0, person, 0])
+                    self.check_no_person(person, function, state, [0] * 3999 + [person])
 
     def test_the_first_one_counts(self):
         for function in (calls.called_all, calls.states_along, calls.idle_calls):
-            self.check(9, function, samples.RING, [0, 9, -1, 3])
-            self.check(-1, function, samples.RING, [-1, 9])
-            self.check(3, function, samples.RING, [2, 1, 3, -7, 3])
-            self.check(10 ** 12, function, samples.RING, [1, 10 ** 12, -7])
+            self.check_no_person(9, function, samples.RING, [0, 9, -1, 3])
+            self.check_no_person(-1, function, samples.RING, [-1, 9])
+            self.check_no_person(3, function, samples.RING, [2, 1, 3, -7, 3])
+            self.check_no_person(10 ** 12, function, samples.RING, [1, 10 ** 12, -7])
 
 
 if __name__ == "__main__":

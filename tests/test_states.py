@@ -3,8 +3,8 @@
 import unittest
 
 from lookpast import states
-from lookpast.errors import NoPerson
 from tests import plain, samples
+from tests.cases import PersonCase
 
 
 def nested(depth, inner):
@@ -139,20 +139,15 @@ class Forms(unittest.TestCase):
         self.assertEqual(states.way(state, 4), [2, 1, 0, 3, 4])
 
 
-class NoSuchPerson(unittest.TestCase):
-    def check(self, person, function, *arguments):
-        with self.assertRaises(NoPerson) as caught:
-            function(*arguments)
-        self.assertEqual(caught.exception.person, person)
-
+class NoSuchPerson(PersonCase):
     def test_every_function_with_a_person(self):
         for state in (samples.RING, samples.LINE, samples.MIXED, (0,), samples.ring_state(40)):
             for person in samples.strangers(state):
-                self.check(person, states.way, state, person)
-                self.check(person, states.ring_of, state, person)
-                self.check(person, states.height, state, person)
+                self.check_no_person(person, states.way, state, person)
+                self.check_no_person(person, states.ring_of, state, person)
+                self.check_no_person(person, states.height, state, person)
                 for steps in (0, 1, 10 ** 12):
-                    self.check(person, states.person_after, state, person, steps)
+                    self.check_no_person(person, states.person_after, state, person, steps)
 
 
 if __name__ == "__main__":
