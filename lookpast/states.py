@@ -22,16 +22,25 @@ def check_person(state, person):
         raise NoPerson(person)
 
 
-def route_from(state, person):
-    """Return the people who are met from person on, person first, each once."""
+def route_from(pointers, person):
+    """Return the people who are met from person on, person first, each once.
+
+    A pointer that is not known is None; the route ends there.
+    """
     route = []
     seen = set()
     at = person
-    while at not in seen:
+    while at is not None and at not in seen:
         seen.add(at)
         route.append(at)
-        at = state[at]
+        at = pointers[at]
     return route
+
+
+def turned(members, first):
+    """Return the members of a ring in the same order, from first on."""
+    at = members.index(first)
+    return members[at:] + members[:at]
 
 
 def ring_begin(state, route):
@@ -61,8 +70,7 @@ def ring_of(state, person):
     check_person(state, person)
     route = route_from(state, person)
     members = route[ring_begin(state, route):]
-    least = members.index(min(members))
-    return tuple(members[least:] + members[:least])
+    return tuple(turned(members, min(members)))
 
 
 def rings(state):

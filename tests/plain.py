@@ -1,4 +1,6 @@
-"""What the document says of states and calls, done one by one, to compare the package with."""
+"""What the document says, read as plainly as can be and done one by one, to compare the package with."""
+
+import functools
 
 
 def follow(state, person, steps):
@@ -18,6 +20,7 @@ def follow_far(state, person, steps):
     return person
 
 
+@functools.lru_cache(maxsize=None)
 def way(state, person):
     met = []
     for steps in range(1, len(state) + 1):
@@ -27,6 +30,7 @@ def way(state, person):
     return met
 
 
+@functools.lru_cache(maxsize=None)
 def is_on_ring(state, person):
     return any(follow(state, person, steps) == person for steps in range(1, len(state) + 1))
 
@@ -38,6 +42,7 @@ def height(state, person):
     return steps
 
 
+@functools.lru_cache(maxsize=None)
 def ring_of(state, person):
     least = min(target for target in way(state, person) if is_on_ring(state, target))
     ring = [least]
@@ -46,6 +51,7 @@ def ring_of(state, person):
     return tuple(ring)
 
 
+@functools.lru_cache(maxsize=None)
 def rings(state):
     found = []
     for person in range(len(state)):
@@ -54,6 +60,7 @@ def rings(state):
     return found
 
 
+@functools.lru_cache(maxsize=None)
 def components(state):
     ends = [follow(state, person, len(state)) for person in range(len(state))]
     found = []
@@ -74,3 +81,86 @@ def call_all(state, word):
     for person in word:
         state = call(state, person)
     return state
+
+
+@functools.lru_cache(maxsize=None)
+def futures(state):
+    """All states that calls lead to, found layer by layer."""
+    found = {state}
+    layer = [state]
+    while layer:
+        after = {call(old, person) for old in layer for person in range(len(old))}
+        layer = sorted(after - found)
+        found |= after
+    return frozenset(found)
+
+
+def component_of(state, person):
+    return next(group for group in components(state) if person in group)
+
+
+def steps_to(state, person, target):
+    """How many pointers lead from person to target, at least one; None if they never do."""
+    for steps in range(1, len(state) + 1):
+        if follow(state, person, steps) == target:
+            return steps
+    return None
+
+
+def is_ring_met_in_order(state, x, y, z):
+    """Whether the ring of x meets y before z, from x on."""
+    return steps_to(state, x, y) < steps_to(state, x, z)
+
+
+def is_way_obstacle(state, goal, x):
+    return goal[x] not in way(state, x)
+
+
+def is_rings_obstacle(state, goal, x, y):
+    if not (x < y and is_on_ring(goal, x) and is_on_ring(goal, y)):
+        return False
+    return y not in way(goal, x) and component_of(state, x) == component_of(state, y)
+
+
+def is_order_obstacle(state, goal, x, y, z):
+    if len({x, y, z}) < 3:
+        return False
+    for some in (state, goal):
+        if not (is_on_ring(some, x) and is_on_ring(some, y) and is_on_ring(some, z)):
+            return False
+        if not (y in way(some, x) and z in way(some, x)):
+            return False
+    return is_ring_met_in_order(goal, x, y, z) and is_ring_met_in_order(state, x, z, y)
+
+
+OBSTACLES = {"way": (is_way_obstacle, 1), "rings": (is_rings_obstacle, 2), "order": (is_order_obstacle, 3)}
+
+
+def is_obstacle(state, goal, value):
+    """Point [6] for a tuple of one of the three forms, of any integers."""
+    test, many = OBSTACLES[value[0]]
+    people = value[1:]
+    assert len(people) == many, value
+    return all(0 <= x < len(state) for x in people) and test(state, goal, *people)
+
+
+def obstacle(state, goal):
+    """The obstacle that point [6] chooses."""
+    people = range(len(state))
+    for x in people:
+        if is_way_obstacle(state, goal, x):
+            return ("way", x)
+    least = [ring[0] for ring in rings(goal)]
+    pairs = [(x, y) for x in least for y in least if is_rings_obstacle(state, goal, x, y)]
+    if pairs:
+        return ("rings",) + min(pairs)
+    for ring in sorted(rings(goal)):
+        x = ring[0]
+        for y, z in zip(ring[1:], ring[2:]):
+            if is_order_obstacle(state, goal, x, y, z):
+                return ("order", x, y, z)
+    return None
+
+
+def code(state):
+    return tuple(-1 if is_on_ring(state, x) else state[x] for x in range(len(state)))

@@ -73,3 +73,44 @@ def strangers(state):
     """Integers that are not among the people of a state."""
     size = len(state)
     return [-1, -size, -size - 1, size, size + 1, -10 ** 12, 10 ** 12, 10 ** 5000]
+
+
+def small_pairs(most=4):
+    """All pairs of states of one to most people, both of as many."""
+    for size in range(1, most + 1):
+        states = list(itertools.product(range(size), repeat=size))
+        yield from itertools.product(states, states)
+
+
+def some_pairs(size, many, seed=11):
+    """Pairs of states of so many people: any two, and two that share most of their pointers."""
+    chosen = random.Random(seed)
+    for unused in range(many):
+        one = tuple(chosen.randrange(size) for x in range(size))
+        yield one, tuple(chosen.randrange(size) for x in range(size))
+        yield one, tuple(chosen.randrange(size) if chosen.random() < 0.2 else target for target in one)
+
+
+def later_states(state, seed=5):
+    """Futures of a state, near and far, made by calls."""
+    chosen = random.Random(seed)
+    for many in (0, 1, 3, 10, 40, 200):
+        after = list(state)
+        for unused in range(many):
+            person = chosen.randrange(len(state))
+            after[person] = after[after[person]]
+        yield tuple(after)
+
+
+def far_numbers(many):
+    """Integers that number none of so many things: just beyond both ends, and far away."""
+    return [-1, -2, -many, -many - 1, many, many + 1, 2 * many, -10 ** 5000, 10 ** 5000]
+
+
+# What a parameter called value may be, and what is nothing that the document describes.
+ODD_VALUES = (
+    None, True, False, 0, 1, -1, 10 ** 5000, "", "0", "way", "rings", "order", "way 1", (), [], ((),), [[]], (None,),
+    [None], ["0"], [True], [False], [0, True], [(0,)], [[0]], [0, [1]], [0, None], [0, "1"], (0,), (0, 1), (1, 0, 0),
+    (((((((("way", 0),),),),),),),), [[[[[[[[0]]]]]]]], ("way", ("way", 0)), (["way", 0],), [("way", 0)], "x" * 100000,
+    ["x"] * 100000, ("way",) * 100000, (None,) * 100000,
+)

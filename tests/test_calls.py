@@ -5,7 +5,7 @@ import unittest
 
 from lookpast import calls
 from tests import plain, samples
-from tests.cases import PersonCase
+from tests.cases import ErrorCase
 
 
 class Called(unittest.TestCase):
@@ -93,7 +93,7 @@ class Words(unittest.TestCase):
         self.assertEqual(calls.idle_calls(samples.MIXED, [2] * 4000), [])
 
 
-class NoSuchPerson(PersonCase):
+class NoSuchPerson(ErrorCase):
     def test_called(self):
         for state in (samples.RING, samples.LINE, (0,), samples.ring_state(40)):
             for person in samples.strangers(state):

@@ -1,28 +1,68 @@
-"""Point [2] for states and calls: kinds of arguments, names, and nothing that is changed."""
+"""Point [2]: kinds of arguments, names, and nothing that is changed."""
 
 import copy
+import inspect
 import unittest
 
-from lookpast import calls, states
+from lookpast import calls, futures, reach, rests, states
 from lookpast.errors import NoPerson
 from tests import samples
 
+RING = samples.RING
+LINE = samples.LINE
+MIXED = samples.MIXED
+PARTS = (1, 2, 0, 4, 3, 3, 6, 6)
+
 QUERIES = (
-    (states.way, {"state": samples.MIXED, "person": 3}),
-    (states.way, {"state": samples.RING, "person": 0}),
-    (states.person_after, {"state": samples.MIXED, "person": 3, "steps": 10 ** 12}),
-    (states.person_after, {"state": samples.LINE, "person": 3, "steps": 2}),
+    (states.is_state, {"value": RING}),
+    (states.is_state, {"value": list(RING)}),
+    (states.way, {"state": MIXED, "person": 3}),
+    (states.way, {"state": RING, "person": 0}),
+    (states.way, {"state": RING, "person": 3}),
+    (states.person_after, {"state": MIXED, "person": 3, "steps": 10 ** 12}),
+    (states.person_after, {"state": LINE, "person": 3, "steps": 2}),
     (states.rings, {"state": (1, 0, 2, 2)}),
-    (states.ring_of, {"state": samples.MIXED, "person": 3}),
-    (states.height, {"state": samples.LINE, "person": 3}),
+    (states.ring_of, {"state": MIXED, "person": 3}),
+    (states.height, {"state": LINE, "person": 3}),
     (states.components, {"state": (3, 2, 1, 3)}),
-    (calls.called, {"state": samples.LINE, "person": 3}),
-    (calls.called, {"state": samples.LINE, "person": 1}),
-    (calls.called_all, {"state": samples.RING, "word": [0, 1, 1, 2]}),
-    (calls.called_all, {"state": samples.RING, "word": []}),
-    (calls.states_along, {"state": samples.LINE, "word": [3, 1, 2]}),
-    (calls.states_along, {"state": samples.LINE, "word": []}),
-    (calls.idle_calls, {"state": samples.LINE, "word": [3, 1, 2, 0]}),
+    (calls.called, {"state": LINE, "person": 3}),
+    (calls.called, {"state": LINE, "person": 1}),
+    (calls.called_all, {"state": RING, "word": [0, 1, 1, 2]}),
+    (calls.called_all, {"state": RING, "word": []}),
+    (calls.called_all, {"state": RING, "word": [0, 7, -1]}),
+    (calls.states_along, {"state": LINE, "word": [3, 1, 2]}),
+    (calls.states_along, {"state": LINE, "word": []}),
+    (calls.idle_calls, {"state": LINE, "word": [3, 1, 2, 0]}),
+    (reach.leads, {"state": RING, "goal": (1, 0, 0)}),
+    (reach.leads, {"state": RING, "goal": (2, 0, 1)}),
+    (reach.leads, {"state": RING, "goal": (0, 0)}),
+    (reach.obstacle, {"state": LINE, "goal": (0, 2, 1, 2)}),
+    (reach.obstacle, {"state": RING, "goal": (0, 1, 0)}),
+    (reach.obstacle, {"state": RING, "goal": (2, 0, 1)}),
+    (reach.obstacle, {"state": RING, "goal": RING}),
+    (reach.is_obstacle, {"state": RING, "goal": (2, 0, 1), "value": ("order", 1, 0, 2)}),
+    (reach.is_obstacle, {"state": RING, "goal": (2, 0, 1), "value": ["order", 1, 0, 2]}),
+    (reach.word_to, {"state": PARTS, "goal": (2, 2, 2, 4, 4, 4, 6, 6)}),
+    (reach.word_to, {"state": samples.lasso_state(40, 20), "goal": (39,) * 40}),
+    (reach.word_to, {"state": RING, "goal": (2, 0, 1)}),
+    (reach.is_word_to, {"state": RING, "goal": (1, 0, 0), "value": [1]}),
+    (reach.is_word_to, {"state": RING, "goal": (1, 0, 0), "value": (1,)}),
+    (futures.code_of, {"state": MIXED}),
+    (futures.futures_many, {"state": MIXED}),
+    (futures.future_at, {"state": MIXED, "number": 11}),
+    (futures.future_at, {"state": samples.ring_state(40), "number": 40 ** 38}),
+    (futures.future_at, {"state": MIXED, "number": 18}),
+    (futures.number_of, {"state": MIXED, "goal": (1, 1, 1, 1)}),
+    (futures.number_of, {"state": RING, "goal": (2, 0, 1)}),
+    (rests.is_at_rest, {"state": (0, 0, 2)}),
+    (rests.is_at_rest, {"state": MIXED}),
+    (rests.rests_many, {"state": PARTS}),
+    (rests.rest_with, {"state": PARTS, "roots": [6, 2, 3]}),
+    (rests.rest_with, {"state": PARTS, "roots": [6, 2, 7]}),
+    (rests.fewest_to_rest, {"state": PARTS, "roots": [6, 2, 3]}),
+    (rests.word_to_rest, {"state": PARTS, "roots": [6, 2, 3]}),
+    (rests.shows_fewest, {"state": PARTS, "roots": [6, 2, 3], "value": [0, 2, 3]}),
+    (rests.shows_fewest, {"state": PARTS, "roots": [6, 2, 3], "value": (0, 2, 3)}),
 )
 
 
@@ -35,6 +75,11 @@ def swapped(value):
     return value
 
 
+def all_swapped(named):
+    """The same arguments, swapped, but for a parameter called value, of which the kind counts."""
+    return {name: given if name == "value" else swapped(given) for name, given in named.items()}
+
+
 def kinds(value):
     """A value together with the kinds of all its parts."""
     if isinstance(value, (list, tuple)):
@@ -42,44 +87,56 @@ def kinds(value):
     return type(value), value
 
 
+def outcome(function, *arguments, **named):
+    """What a query returns or raises, with the kinds of all parts."""
+    try:
+        return kinds(function(*arguments, **named))
+    except (LookupError, ValueError, RuntimeError) as error:
+        return type(error), {name: kinds(value) for name, value in vars(error).items()}
+
+
 class Arguments(unittest.TestCase):
     def each(self):
         for function, named in QUERIES:
             with self.subTest(function.__name__, **named):
-                yield function, named, kinds(function(*named.values()))
+                yield function, named, outcome(function, *named.values())
+
+    def test_names_and_their_order(self):
+        for function, named, expected in self.each():
+            self.assertEqual(list(inspect.signature(function).parameters), list(named))
 
     def test_by_name(self):
         for function, named, expected in self.each():
-            self.assertEqual(kinds(function(**named)), expected)
+            self.assertEqual(outcome(function, **named), expected)
             backwards = dict(reversed(list(named.items())))
-            self.assertEqual(kinds(function(**backwards)), expected)
+            self.assertEqual(outcome(function, **backwards), expected)
 
     def test_other_kinds_of_sequences(self):
         for function, named, expected in self.each():
-            others = {name: swapped(value) for name, value in named.items()}
-            self.assertEqual(kinds(function(**others)), expected)
-            self.assertEqual(kinds(function(*others.values())), expected)
+            others = all_swapped(named)
+            self.assertEqual(outcome(function, **others), expected)
+            self.assertEqual(outcome(function, *others.values()), expected)
 
     def test_arguments_are_not_changed(self):
         for function, named, expected in self.each():
-            for passed in (dict(named), {name: swapped(value) for name, value in named.items()}):
+            for passed in (copy.deepcopy(named), all_swapped(named)):
                 before = copy.deepcopy(passed)
-                function(**passed)
+                outcome(function, **passed)
                 self.assertEqual(kinds(list(passed.values())), kinds(list(before.values())))
 
     def test_the_same_query_again(self):
         for function, named, expected in self.each():
             for unused in range(3):
-                self.assertEqual(kinds(function(**named)), expected)
+                self.assertEqual(outcome(function, **named), expected)
 
     def test_a_returned_list_belongs_to_the_caller(self):
         for function, named, expected in self.each():
-            for passed in (dict(named), {name: swapped(value) for name, value in named.items()}):
-                result = function(**passed)
-                if isinstance(result, list):
+            for passed in (dict(named), all_swapped(named)):
+                if expected[0] is list:
+                    result = function(**passed)
                     result.append("more")
                     result[0] = "other"
-                    self.assertEqual(kinds(function(**passed)), expected)
+                    self.assertEqual(outcome(function, **passed), expected)
 
     def test_later_changes_of_an_argument_do_not_reach_a_result(self):
         state = list(samples.LINE)
@@ -94,10 +151,20 @@ class Arguments(unittest.TestCase):
         self.assertEqual(calls.called_all(both, both), (0, 0, 1))
         self.assertEqual(both, [1, 2, 0])
 
+    def test_one_list_as_state_and_goal(self):
+        both = [1, 2, 0]
+        self.assertIsNone(reach.obstacle(both, both))
+        self.assertEqual(calls.called_all(both, reach.word_to(both, both)), (1, 2, 0))
+        self.assertEqual(futures.number_of(both, both), 0)
+        self.assertEqual(both, [1, 2, 0])
+
     def test_value_is_not_changed(self):
         value = [[1, 0], (0,), "0", None, True]
         before = copy.deepcopy(value)
         self.assertIs(states.is_state(value), False)
+        self.assertIs(reach.is_obstacle(RING, RING, value), False)
+        self.assertIs(reach.is_word_to(RING, RING, value), False)
+        self.assertIs(rests.shows_fewest(RING, [0], value), False)
         self.assertEqual(value, before)
 
     def test_results_may_be_passed_in_again(self):
@@ -106,11 +173,14 @@ class Arguments(unittest.TestCase):
         self.assertIs(states.is_state(after), True)
         self.assertEqual(calls.called_all(after, word), (0, 0, 0))
         self.assertEqual(states.rings(after), [(0,)])
+        goal = futures.future_at(MIXED, 17)
+        self.assertIs(reach.is_word_to(MIXED, goal, reach.word_to(MIXED, goal)), True)
+        self.assertIs(reach.is_obstacle(goal, MIXED, reach.obstacle(goal, MIXED)), True)
 
     def test_a_query_that_raises_changes_nothing(self):
         state = list(samples.RING)
         word = [0, 1, 7]
-        for function in (calls.called_all, calls.states_along, calls.idle_calls):
+        for function in (calls.called_all, calls.states_along, calls.idle_calls, rests.rest_with):
             self.assertRaises(NoPerson, function, state, word)
             self.assertEqual([state, word], [list(samples.RING), [0, 1, 7]])
 
@@ -121,6 +191,9 @@ class Beyond(unittest.TestCase):
         self.assertEqual(states.rings(state), [tuple(range(60))])
         self.assertEqual(states.person_after(state, 0, 10 ** 13), 10 ** 13 % 60)
         self.assertEqual(len(calls.states_along(state, [0] * 4500)), 4501)
+        self.assertEqual(calls.called_all(state, reach.word_to(state, (59,) * 60)), (59,) * 60)
+        self.assertEqual(futures.number_of(state, (59,) * 60), 61 ** 59 - 1)
+        self.assertEqual(rests.fewest_to_rest(state, [0]), 59)
 
 
 if __name__ == "__main__":

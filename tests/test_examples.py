@@ -2,10 +2,11 @@
 
 import unittest
 
-from lookpast import calls, errors, states
-from tests import samples
+from lookpast import calls, errors, futures, reach, rests, states
+from tests import samples, test_conventions
 
-EXAMPLES = """
+EXAMPLES = {
+    4: """
     >>> [is_state((1, 2, 0)), is_state((1, 3))]
     [True, False]
     >>> [way(mixed, 3), way(ring, 0)]
@@ -18,6 +19,8 @@ EXAMPLES = """
     [2, 0]
     >>> components((0, 0, 2))
     [(0, 1), (2,)]
+""",
+    5: """
     >>> called(line, 3)
     (0, 0, 1, 1)
     >>> [called_all(line, [3, 3]), called_all(ring, [0])]
@@ -26,14 +29,64 @@ EXAMPLES = """
     [(0, 0, 1, 2), (0, 0, 1, 1), (0, 0, 1, 1)]
     >>> idle_calls(line, [3, 1])
     [1]
-"""
+""",
+    6: """
+    >>> [leads(ring, (1, 0, 0)), leads(ring, (2, 0, 1))]
+    [True, False]
+    >>> [obstacle(line, (0, 2, 1, 2)), obstacle(ring, (0, 1, 0)), obstacle(ring, (2, 0, 1))]
+    [('way', 1), ('rings', 0, 1), ('order', 0, 2, 1)]
+    >>> is_obstacle(ring, (2, 0, 1), ("order", 1, 0, 2))
+    True
+    >>> called_all(ring, word_to(ring, (0, 0, 0)))
+    (0, 0, 0)
+    >>> word_to(ring, (2, 0, 1))
+    raises Unreachable(obstacle=('order', 0, 2, 1))
+    >>> [is_word_to(ring, (1, 0, 0), [1]), is_word_to(ring, (1, 0, 0), [0])]
+    [True, False]
+""",
+    7: """
+    >>> code_of((1, 0, 0))
+    (-1, -1, 0)
+    >>> [futures_many(ring), futures_many(mixed), futures_many(line)]
+    [16, 18, 6]
+    >>> [future_at(ring, 0), future_at(ring, 1), future_at(ring, 15)]
+    [(1, 2, 0), (1, 0, 0), (2, 2, 2)]
+    >>> number_of(ring, (1, 0, 0))
+    1
+""",
+    8: """
+    >>> [is_at_rest((0, 0, 0)), is_at_rest(line)]
+    [True, False]
+    >>> rests_many(mixed)
+    2
+    >>> rest_with(mixed, [1])
+    (1, 1, 1, 1)
+    >>> rest_with(mixed, [2])
+    raises NoRoot(person=2)
+    >>> fewest_to_rest(mixed, [1])
+    3
+    >>> called_all(mixed, word_to_rest(mixed, [1]))
+    (1, 1, 1, 1)
+    >>> shows_fewest(mixed, [1], [1, 2, 3])
+    True
+""",
+}
+HOW_MANY = {4: 6, 5: 4, 6: 6, 7: 4, 8: 7}
+
+FUNCTIONS = {
+    states: "is_state way person_after rings ring_of height components",
+    calls: "called called_all states_along idle_calls",
+    reach: "leads obstacle is_obstacle word_to is_word_to",
+    futures: "code_of futures_many future_at number_of",
+    rests: "is_at_rest rests_many rest_with fewest_to_rest word_to_rest shows_fewest",
+}
 
 PROMPT = ">>> "
 
 
-def examples():
+def examples(point):
     """Pairs of an expression and the line that it must show."""
-    lines = [row.strip() for row in EXAMPLES.strip().splitlines()]
+    lines = [row.strip() for row in EXAMPLES[point].strip().splitlines()]
     for shown, expected in zip(lines[::2], lines[1::2], strict=True):
         assert shown.startswith(PROMPT), shown
         yield shown.removeprefix(PROMPT), expected
@@ -41,9 +94,22 @@ def examples():
 
 def names():
     known = {"ring": samples.RING, "line": samples.LINE, "mixed": samples.MIXED}
-    for module in (states, calls):
+    for module in FUNCTIONS:
         known.update(vars(module))
     return known
+
+
+def shown_error(error):
+    """An error as the document shows it, with its attributes."""
+    values = ", ".join(f"{name}={value!r}" for name, value in vars(error).items())
+    return f"raises {type(error).__name__}" + (f"({values})" if values else "")
+
+
+def shown_outcome(expression):
+    try:
+        return repr(eval(expression, names()))
+    except (LookupError, ValueError, RuntimeError) as error:
+        return shown_error(error)
 
 
 class Examples(unittest.TestCase):
@@ -53,25 +119,29 @@ class Examples(unittest.TestCase):
         self.assertEqual(samples.MIXED, (1, 0, 0, 2))
 
     def test_examples(self):
-        for shown, expected in examples():
-            with self.subTest(shown):
-                self.assertEqual(repr(eval(shown, names())), expected)
+        for point in EXAMPLES:
+            for expression, expected in examples(point):
+                with self.subTest(expression, point=point):
+                    self.assertEqual(shown_outcome(expression), expected)
 
     def test_number_of_examples(self):
-        self.assertEqual(len(list(examples())), 10)
+        self.assertEqual({point: len(list(examples(point))) for point in EXAMPLES}, HOW_MANY)
 
 
 class Names(unittest.TestCase):
-    def test_all_functions_of_the_points_exist(self):
-        wanted = {
-            states: "is_state way person_after rings ring_of height components",
-            calls: "called called_all states_along idle_calls",
-            errors: "NoPerson NoNumber NoDeed OtherSize NoRoot MissingRoot NotKin NotPast BadDeed BadText"
-            " BadLine Unreachable NoCommon Denied IsRoot TooMany",
-        }
-        for module, listed in wanted.items():
+    def test_all_functions_of_the_points_exist_and_are_queried(self):
+        queried = {function for function, named in test_conventions.QUERIES}
+        for module, listed in FUNCTIONS.items():
             for name in listed.split():
-                self.assertTrue(callable(getattr(module, name, None)), name)
+                function = getattr(module, name, None)
+                self.assertTrue(callable(function), name)
+                self.assertEqual(function.__module__, module.__name__)
+                self.assertIn(function, queried)
+
+    def test_all_errors_exist(self):
+        for name in ("NoPerson NoNumber NoDeed OtherSize NoRoot MissingRoot NotKin NotPast BadDeed BadText BadLine"
+                     " Unreachable NoCommon Denied IsRoot TooMany").split():
+            self.assertTrue(issubclass(getattr(errors, name), Exception), name)
 
 
 if __name__ == "__main__":

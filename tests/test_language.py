@@ -32,7 +32,13 @@ BARRED_WORDS = re.compile(
 )
 BARRED_NODES = (
     ast.Import, ast.Global, ast.AsyncFunctionDef, ast.AsyncFor, ast.AsyncWith, ast.Await, ast.Div, ast.MatMult,
+    ast.GeneratorExp,
 )
+# Called to be iterated on the spot, and the builtins whose first argument they may be.
+AT_ONCE = {"zip", "enumerate", "reversed", "range", "items", "keys", "values"}
+ITERATING = {"list", "tuple", "dict", "sorted", "sum", "any", "all", "enumerate", "zip", "min", "max", "len"}
+SET_METHODS = {"add", "discard"}
+SET_BUILTINS = {"len", "sorted"}
 
 
 def sources():
@@ -48,6 +54,24 @@ def nodes():
     for path, tree in trees():
         for node in ast.walk(tree):
             yield f"{path.name}:{getattr(node, 'lineno', 0)}", node
+
+
+def called_name(node):
+    """The name of the function or method that a node calls, or None."""
+    if not isinstance(node, ast.Call):
+        return None
+    return getattr(node.func, "id", None) or getattr(node.func, "attr", None)
+
+
+def parents():
+    """Pairs of a node and a node directly inside it."""
+    for place, node in nodes():
+        for child in ast.iter_child_nodes(node):
+            yield f"{place}-{getattr(child, 'lineno', 0)}", node, child
+
+
+def is_set(node):
+    return isinstance(node, (ast.Set, ast.SetComp)) or called_name(node) in ("set", "frozenset")
 
 
 def names_in(node):
@@ -176,6 +200,59 @@ class Code(unittest.TestCase):
                     for node in ast.walk(statement):
                         if isinstance(node, (ast.Name, ast.arg)) and names_in(node):
                             self.assertNotIn(names_in(node)[0], taken, f"{path.name}:{node.lineno}")
+
+    def test_powers_have_literal_exponents(self):
+        for place, node in nodes():
+            if isinstance(node, ast.BinOp) and isinstance(node.op, ast.Pow):
+                self.assertIn(getattr(node.right, "value", None), range(65), place)
+
+    def test_what_is_iterated_at_once(self):
+        for place, node, child in parents():
+            if called_name(child) in AT_ONCE:
+                is_iterated = isinstance(node, (ast.For, ast.comprehension)) and node.iter is child
+                is_first = called_name(node) in ITERATING and node.args[0] is child
+                is_range = called_name(node) == "reversed" and called_name(child) == "range"
+                is_tested = isinstance(node, ast.Compare)
+                self.assertTrue(is_iterated or is_first or is_range or is_tested, place)
+
+    def test_where_sets_stand(self):
+        for place, node, child in parents():
+            if is_set(child):
+                is_stored = isinstance(node, ast.Assign) and isinstance(node.targets[0], ast.Name)
+                is_read = called_name(node) in SET_BUILTINS or isinstance(node, (ast.Compare, ast.BinOp))
+                self.assertTrue(is_stored or is_read, place)
+
+    def test_how_stored_sets_are_used(self):
+        for place, function in nodes():
+            if isinstance(function, ast.FunctionDef):
+                self.check_stored_sets(place, function)
+
+    def check_stored_sets(self, place, function):
+        inside = list(ast.walk(function))
+        stored = [node.targets[0].id for node in inside if isinstance(node, ast.Assign) and is_set(node.value)]
+        self.assertEqual(len(stored), len(set(stored)), place)
+        for node in inside:
+            for child in ast.iter_child_nodes(node):
+                if isinstance(child, ast.Name) and child.id in stored and isinstance(child.ctx, ast.Load):
+                    is_method = isinstance(node, ast.Attribute) and node.attr in SET_METHODS
+                    is_read = called_name(node) in SET_BUILTINS or isinstance(node, (ast.Compare, ast.UnaryOp))
+                    is_condition = isinstance(node, (ast.If, ast.While, ast.BoolOp))
+                    self.assertTrue(is_method or is_read or is_condition, f"{place}: {child.id}")
+
+    def test_keywords_of_builtins(self):
+        allowed = {"sorted": {"key", "reverse"}, "min": {"key", "default"}, "max": {"key", "default"},
+                   "sum": {"start"}, "enumerate": {"start"}, "zip": {"strict"}}
+        for place, node in nodes():
+            if isinstance(node, ast.Call) and isinstance(node.func, ast.Name) and hasattr(builtins, node.func.id):
+                used = {keyword.arg for keyword in node.keywords}
+                self.assertLessEqual(used, allowed.get(node.func.id, set()), place)
+
+    def test_every_import_is_used(self):
+        for path, tree in trees():
+            used = {node.id for node in ast.walk(tree) if isinstance(node, ast.Name)}
+            for statement in tree.body:
+                if isinstance(statement, ast.ImportFrom):
+                    self.assertLessEqual({alias.name for alias in statement.names}, used, path.name)
 
     def test_methods(self):
         own = {node.name for place, node in nodes() if isinstance(node, ast.FunctionDef)}

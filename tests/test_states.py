@@ -4,7 +4,7 @@ import unittest
 
 from lookpast import states
 from tests import plain, samples
-from tests.cases import PersonCase
+from tests.cases import ErrorCase
 
 
 def nested(depth, inner):
@@ -139,7 +139,7 @@ class Forms(unittest.TestCase):
         self.assertEqual(states.way(state, 4), [2, 1, 0, 3, 4])
 
 
-class NoSuchPerson(PersonCase):
+class NoSuchPerson(ErrorCase):
     def test_every_function_with_a_person(self):
         for state in (samples.RING, samples.LINE, samples.MIXED, (0,), samples.ring_state(40)):
             for person in samples.strangers(state):
