@@ -16,6 +16,11 @@ def product(factors):
     return result
 
 
+def factorial(number):
+    """Return the factorial of an integer from 0 on."""
+    return product(list(range(1, number + 1)))
+
+
 def groups_of(pairs, many):
     """Return the triple (choice, first number, how many) for each choice, if all have so many sequences."""
     whole = sum([share for choice, share in pairs])

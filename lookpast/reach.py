@@ -57,10 +57,9 @@ def order_broken(members, ring):
 
     Only members of the ring are in members; both are followed from the first of members on.
     """
-    start = members[0]
     for early, late in zip(members[1:], members[2:]):
-        if meets_first(ring, start, late, early):
-            return ("order", start, early, late)
+        if meets_first(ring, members[0], late, early):
+            return ("order", members[0], early, late)
     return None
 
 

@@ -1,6 +1,7 @@
 """What the document says, read as plainly as can be and done one by one, to compare the package with."""
 
 import functools
+import itertools
 
 
 def follow(state, person, steps):
@@ -164,3 +165,115 @@ def obstacle(state, goal):
 
 def code(state):
     return tuple(-1 if is_on_ring(state, x) else state[x] for x in range(len(state)))
+
+
+@functools.lru_cache(maxsize=None)
+def pasts(state):
+    """All states that lead to a state, found by a search from each state of as many people."""
+    everything = itertools.product(range(len(state)), repeat=len(state))
+    return frozenset(past for past in everything if state in futures(past))
+
+
+def kin(state):
+    """All states that lead to a state and that it leads to, in ascending order."""
+    return sorted(other for other in futures(state) if state in futures(other))
+
+
+def people_bar(one, other):
+    for x in range(len(one)):
+        if component_of(one, x) != component_of(other, x):
+            return ("people", x)
+    return None
+
+
+def shared(one, other, group):
+    """The members of a component who are on the rings of both states, in ascending order."""
+    return [x for x in group if is_on_ring(one, x) and is_on_ring(other, x)]
+
+
+def future_bar(one, other):
+    if people_bar(one, other) is not None:
+        return people_bar(one, other)
+    for x in range(len(one)):
+        if not shared(one, other, component_of(one, x)):
+            return ("rings", x)
+    return None
+
+
+def past_bar(one, other):
+    if people_bar(one, other) is not None:
+        return people_bar(one, other)
+    for group in components(one):
+        for x in shared(one, other, group)[:1]:
+            behind = sorted(shared(one, other, group)[1:], key=lambda y: steps_to(one, x, y))
+            for y, z in zip(behind, behind[1:]):
+                if is_ring_met_in_order(other, x, z, y):
+                    return ("order", x, y, z)
+    return None
+
+
+def laps(state, past):
+    """The LAPS of a ring past, by point [11]."""
+    found = []
+    for group in components(state):
+        first = min(x for x in group if is_on_ring(state, x))
+        found.append(tuple(follow(past, first, steps) for steps in range(len(group))))
+    return found
+
+
+def lines(state, past):
+    """The LINES of a line past, by point [11]."""
+    found = []
+    for group in components(state):
+        first = next(x for x in group if not any(past[y] == x for y in group if y != x))
+        found.append(tuple(follow(past, first, steps) for steps in range(len(group))))
+    return found
+
+
+def is_all_rings(past):
+    return all(is_on_ring(past, x) for x in range(len(past)))
+
+
+def is_all_lines(past):
+    people = range(len(past))
+    has_roots = all(any(past[x] == x for x in group) for group in components(past))
+    return has_roots and all(sum(past[y] == x for y in people if y != x) <= 1 for x in people)
+
+
+def meets(state, wish):
+    return all(wish[x] in (None, state[x]) for x in range(len(state)))
+
+
+def closed_ring_from(wish, x):
+    """The closed ring on which x is, from x on; None if there is none."""
+    met = [x]
+    for unused in wish:
+        after = wish[met[-1]]
+        if after is None:
+            return None
+        if after == x:
+            return tuple(met)
+        met.append(after)
+    return None
+
+
+def closed_rings(wish):
+    found = [closed_ring_from(wish, x) for x in range(len(wish))]
+    return [ring for ring in found if ring is not None and ring[0] == min(ring)]
+
+
+def wish_obstacle(state, wish):
+    """The obstacle of a wish that is chosen as in point [6]."""
+    for x, target in enumerate(wish):
+        if target is not None and target not in way(state, x):
+            return ("way", x)
+    closed = closed_rings(wish)
+    least = [ring[0] for ring in closed]
+    pairs = [(x, y) for x in least for y in least if x < y and component_of(state, x) == component_of(state, y)]
+    if pairs:
+        return ("rings",) + min(pairs)
+    for ring in sorted(closed):
+        for y, z in zip(ring[1:], ring[2:]):
+            if is_ring_met_in_order(state, ring[0], z, y):
+                return ("order", ring[0], y, z)
+    return None

@@ -107,6 +107,18 @@ def far_numbers(many):
     return [-1, -2, -many, -many - 1, many, many + 1, 2 * many, -10 ** 5000, 10 ** 5000]
 
 
+def some_numbers(many, seed=8):
+    """Numbers of so many things: at both ends, and others anywhere between."""
+    chosen = random.Random(seed)
+    ends = [number for number in (0, 1, 2, many // 2, many - 2, many - 1) if 0 <= number < many]
+    return sorted(set(ends + [chosen.randrange(many) for unused in range(25)]))
+
+
+def small_forest(size, chosen):
+    """A state in which every ring is a root."""
+    return tuple(x if x < 3 else chosen.randrange(x) for x in range(size))
+
+
 # What a parameter called value may be, and what is nothing that the document describes.
 ODD_VALUES = (
     None, True, False, 0, 1, -1, 10 ** 5000, "", "0", "way", "rings", "order", "way 1", (), [], ((),), [[]], (None,),

@@ -4,7 +4,7 @@ import copy
 import inspect
 import unittest
 
-from lookpast import calls, futures, reach, rests, states
+from lookpast import calls, common, futures, kin, pasts, reach, rests, states, wishes
 from lookpast.errors import NoPerson
 from tests import samples
 
@@ -63,6 +63,46 @@ QUERIES = (
     (rests.word_to_rest, {"state": PARTS, "roots": [6, 2, 3]}),
     (rests.shows_fewest, {"state": PARTS, "roots": [6, 2, 3], "value": [0, 2, 3]}),
     (rests.shows_fewest, {"state": PARTS, "roots": [6, 2, 3], "value": (0, 2, 3)}),
+    (kin.are_kin, {"one": MIXED, "other": (1, 0, 1, 2)}),
+    (kin.are_kin, {"one": MIXED, "other": (1, 0)}),
+    (kin.kin_many, {"state": MIXED}),
+    (kin.kin_at, {"state": MIXED, "number": 1}),
+    (kin.kin_at, {"state": MIXED, "number": 2}),
+    (kin.kin_number, {"state": MIXED, "other": (1, 0, 1, 2)}),
+    (kin.kin_number, {"state": MIXED, "other": (1, 0, 1, 1)}),
+    (common.future_bar, {"one": (0, 0, 2), "other": (0, 1, 1)}),
+    (common.future_bar, {"one": (0, 0), "other": (1, 1)}),
+    (common.future_bar, {"one": RING, "other": (1, 0, 0)}),
+    (common.common_future, {"one": RING, "other": (1, 0, 0)}),
+    (common.common_future, {"one": (0, 0), "other": (1, 1)}),
+    (common.past_bar, {"one": RING, "other": (2, 0, 1)}),
+    (common.past_bar, {"one": RING, "other": (1, 0, 0)}),
+    (common.common_past, {"one": (1, 2, 0, 0, 0, 0), "other": (3, 3, 3, 4, 5, 3)}),
+    (common.common_past, {"one": PARTS, "other": (2, 2, 2, 4, 4, 4, 7, 7)}),
+    (common.common_past, {"one": RING, "other": (2, 0, 1)}),
+    (pasts.ring_pasts_many, {"state": MIXED}),
+    (pasts.ring_past_at, {"state": MIXED, "number": 3}),
+    (pasts.ring_past_at, {"state": (0,) * 40, "number": 30 ** 28}),
+    (pasts.ring_past_at, {"state": MIXED, "number": 6}),
+    (pasts.ring_past_number, {"state": MIXED, "past": (1, 3, 0, 2)}),
+    (pasts.ring_past_number, {"state": MIXED, "past": MIXED}),
+    (pasts.line_pasts_many, {"state": (0, 0, 0, 1)}),
+    (pasts.line_past_at, {"state": (0, 0, 0, 1), "number": 1}),
+    (pasts.line_past_at, {"state": RING, "number": 0}),
+    (pasts.line_past_number, {"state": (0, 0, 0, 1), "past": (0, 0, 3, 1)}),
+    (pasts.line_past_number, {"state": (0, 0, 0, 1), "past": (0, 0)}),
+    (wishes.meets, {"state": (1, 0, 1), "wish": (None, None, 1)}),
+    (wishes.wish_obstacle, {"state": RING, "wish": (0, 1, None)}),
+    (wishes.wish_obstacle, {"state": RING, "wish": (None, None, 1)}),
+    (wishes.wish_obstacle, {"state": RING, "wish": (None,)}),
+    (wishes.granted, {"state": PARTS, "wish": (None, None, None, None, None, 4, None, 7)}),
+    (wishes.granted, {"state": PARTS, "wish": (None, None, 2, None, None, 4, None, None)}),
+    (wishes.granted, {"state": RING, "wish": (2, 0, 1)}),
+    (wishes.pointers_for, {"state": RING, "wish": (1, None, 0), "person": 1}),
+    (wishes.pointers_for, {"state": RING, "wish": (1, None, 0), "person": 2}),
+    (wishes.pointers_for, {"state": RING, "wish": (1, None, 0), "person": 3}),
+    (wishes.forced, {"state": RING, "wish": (1, None, 2)}),
+    (wishes.forced, {"state": RING, "wish": (None, None, None)}),
 )
 
 
@@ -156,6 +196,10 @@ class Arguments(unittest.TestCase):
         self.assertIsNone(reach.obstacle(both, both))
         self.assertEqual(calls.called_all(both, reach.word_to(both, both)), (1, 2, 0))
         self.assertEqual(futures.number_of(both, both), 0)
+        self.assertEqual(kin.kin_number(both, both), 0)
+        self.assertEqual(pasts.ring_past_number(both, both), 0)
+        self.assertEqual(common.common_past(both, both), (1, 2, 0))
+        self.assertEqual(wishes.granted(both, both), (1, 2, 0))
         self.assertEqual(both, [1, 2, 0])
 
     def test_value_is_not_changed(self):
@@ -176,6 +220,9 @@ class Arguments(unittest.TestCase):
         goal = futures.future_at(MIXED, 17)
         self.assertIs(reach.is_word_to(MIXED, goal, reach.word_to(MIXED, goal)), True)
         self.assertIs(reach.is_obstacle(goal, MIXED, reach.obstacle(goal, MIXED)), True)
+        self.assertEqual(wishes.forced(RING, wishes.forced(RING, (1, None, 2))), (1, 2, 2))
+        past = pasts.ring_past_at(MIXED, pasts.ring_pasts_many(MIXED) - 1)
+        self.assertEqual(common.common_past(past, past), past)
 
     def test_a_query_that_raises_changes_nothing(self):
         state = list(samples.RING)
@@ -194,6 +241,12 @@ class Beyond(unittest.TestCase):
         self.assertEqual(calls.called_all(state, reach.word_to(state, (59,) * 60)), (59,) * 60)
         self.assertEqual(futures.number_of(state, (59,) * 60), 61 ** 59 - 1)
         self.assertEqual(rests.fewest_to_rest(state, [0]), 59)
+        self.assertEqual(kin.kin_many(state), 1)
+        self.assertEqual(common.common_future(state, (59,) * 60), (59,) * 60)
+        self.assertEqual(common.common_past(state, (59,) * 60), state)
+        self.assertEqual(pasts.ring_past_number((0,) * 60, state), 0)
+        self.assertEqual(pasts.line_past_number((0,) * 60, samples.line_state(60)), pasts.line_pasts_many((0,) * 60) - 1)
+        self.assertEqual(wishes.forced(state, state[:59] + (None,))[:59], state[:59])
 
 
 if __name__ == "__main__":

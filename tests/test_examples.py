@@ -2,7 +2,7 @@
 
 import unittest
 
-from lookpast import calls, errors, futures, reach, rests, states
+from lookpast import calls, common, errors, futures, kin, pasts, reach, rests, states, wishes
 from tests import samples, test_conventions
 
 EXAMPLES = {
@@ -70,8 +70,52 @@ EXAMPLES = {
     >>> shows_fewest(mixed, [1], [1, 2, 3])
     True
 """,
+    9: """
+    >>> [are_kin(mixed, (1, 0, 1, 2)), are_kin(ring, (1, 0, 0))]
+    [True, False]
+    >>> kin_many(mixed)
+    2
+    >>> [kin_at(mixed, 1), kin_number(mixed, (1, 0, 1, 2))]
+    [(1, 0, 1, 2), 1]
+    >>> kin_number(ring, (1, 0, 0))
+    raises NotKin
+""",
+    10: """
+    >>> [future_bar((0, 0), (1, 1)), future_bar((0, 0, 2), (0, 1, 1)), future_bar(ring, (1, 0, 0))]
+    [('rings', 0), ('people', 0), None]
+    >>> common_future(ring, (1, 0, 0))
+    (0, 0, 0)
+    >>> common_future((0, 0), (1, 1))
+    raises NoCommon(bar=('rings', 0))
+    >>> [past_bar(ring, (2, 0, 1)), past_bar((0, 0), (1, 1))]
+    [('order', 0, 1, 2), None]
+    >>> common_past((0, 0), (1, 1))
+    (1, 0)
+""",
+    11: """
+    >>> [ring_pasts_many((1, 0, 0)), ring_pasts_many(line)]
+    [2, 6]
+    >>> [ring_past_at((1, 0, 0), 0), ring_past_number((1, 0, 0), (2, 0, 1))]
+    [(1, 2, 0), 1]
+    >>> [line_pasts_many((0, 0, 0)), line_pasts_many(ring)]
+    [2, 0]
+    >>> [line_past_at((0, 0, 0), 0), line_past_number((0, 0, 0), (0, 0, 1))]
+    [(0, 2, 0), 1]
+""",
+    12: """
+    >>> meets((1, 0, 1), (None, None, 1))
+    True
+    >>> [wish_obstacle(ring, (2, 0, 1)), wish_obstacle(ring, (0, 1, None)), wish_obstacle(line, (None, 2, None, None))]
+    [('order', 0, 2, 1), ('rings', 0, 1), ('way', 1)]
+    >>> meets(granted(ring, (None, None, 1)), (None, None, 1))
+    True
+    >>> [pointers_for(ring, (1, None, 0), 1), pointers_for(ring, (1, None, 2), 1)]
+    [[0, 1, 2], [2]]
+    >>> forced(ring, (1, None, 2))
+    (1, 2, 2)
+""",
 }
-HOW_MANY = {4: 6, 5: 4, 6: 6, 7: 4, 8: 7}
+HOW_MANY = {4: 6, 5: 4, 6: 6, 7: 4, 8: 7, 9: 4, 10: 5, 11: 4, 12: 5}
 
 FUNCTIONS = {
     states: "is_state way person_after rings ring_of height components",
@@ -79,6 +123,10 @@ FUNCTIONS = {
     reach: "leads obstacle is_obstacle word_to is_word_to",
     futures: "code_of futures_many future_at number_of",
     rests: "is_at_rest rests_many rest_with fewest_to_rest word_to_rest shows_fewest",
+    kin: "are_kin kin_many kin_at kin_number",
+    common: "future_bar common_future past_bar common_past",
+    pasts: "ring_pasts_many ring_past_at ring_past_number line_pasts_many line_past_at line_past_number",
+    wishes: "meets wish_obstacle granted pointers_for forced",
 }
 
 PROMPT = ">>> "

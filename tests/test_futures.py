@@ -2,7 +2,6 @@
 
 import itertools
 import math
-import random
 import unittest
 
 from lookpast import futures, reach
@@ -15,13 +14,6 @@ def product_of_futures(state):
     """The product of guarantee (b)."""
     rings = math.prod((len(ring) + 1) ** (len(ring) - 1) for ring in plain.rings(state))
     return rings * math.prod(len(plain.way(state, x)) for x in range(len(state)) if not plain.is_on_ring(state, x))
-
-
-def some_numbers(many, seed=8):
-    """Numbers at both ends, and others anywhere between."""
-    chosen = random.Random(seed)
-    ends = [number for number in (0, 1, 2, many // 2, many - 2, many - 1) if 0 <= number < many]
-    return sorted(set(ends + [chosen.randrange(many) for unused in range(25)]))
 
 
 class Codes(unittest.TestCase):
@@ -73,7 +65,7 @@ class Numbers(unittest.TestCase):
     def test_back_and_forth(self):
         for state in samples.large_states():
             many = futures.futures_many(state)
-            for number in some_numbers(many):
+            for number in samples.some_numbers(many):
                 goal = futures.future_at(state, number)
                 self.assertIsNone(plain.obstacle(state, goal), (state, number))
                 self.assertEqual(futures.number_of(state, goal), number, state)
@@ -81,7 +73,7 @@ class Numbers(unittest.TestCase):
     def test_codes_ascend_with_the_numbers(self):
         for state in samples.large_states():
             many = futures.futures_many(state)
-            codes = [plain.code(futures.future_at(state, number)) for number in some_numbers(many)]
+            codes = [plain.code(futures.future_at(state, number)) for number in samples.some_numbers(many)]
             self.assertEqual(codes, sorted(set(codes)), state)
 
     def test_neighbours_among_great_numbers(self):
