@@ -105,10 +105,9 @@ def are_reversed(state, goal, people):
     start, early, late = people
     old_ring = ring_of(state, start)
     new_ring = ring_of(goal, start)
-    if start == early or start == late or early == late:
-        return False
     if not all([person in old_ring and person in new_ring for person in people]):
         return False
+    # No person who is given twice is met in both orders, so this asks for three different people, too.
     return meets_first(new_ring, start, early, late) and meets_first(old_ring, start, late, early)
 
 

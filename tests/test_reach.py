@@ -141,10 +141,14 @@ class IsObstacle(unittest.TestCase):
             self.assertIs(reach.is_obstacle(RING, (0, 1, 2), list(value)), False)
             self.assertIs(reach.is_obstacle(RING, (0, 1, 2), value + (2,)), False)
             self.assertIs(reach.is_obstacle(RING, (0, 1, 2), ("rings", value[2], value[1])), False)
+            for word in ("way", "order", "ring", "", None, 0, ("rings",)):
+                self.assertIs(reach.is_obstacle(RING, (0, 1, 2), (word,) + value[1:]), False)
         self.assertIs(reach.is_obstacle((0, 1), (1, 0), ("way", 0)), True)
         self.assertIs(reach.is_obstacle((0, 1), (1, 0), ["way", 0]), False)
         self.assertIs(reach.is_obstacle((0, 1), (1, 0), ("way", 0, 0)), False)
         self.assertIs(reach.is_obstacle((0, 1), (1, 0), ("way",)), False)
+        for word in ("rings", "order", "ways", "", None, 0, ("way",)):
+            self.assertIs(reach.is_obstacle((0, 1), (1, 0), (word, 0)), False)
 
     def test_booleans_and_other_items(self):
         for wrong in (True, False, None, "0", "1", (0,), [1], (), 10 ** 5000, -10 ** 5000):
