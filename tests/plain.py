@@ -277,3 +277,44 @@ def wish_obstacle(state, wish):
             if is_ring_met_in_order(state, ring[0], z, y):
                 return ("order", ring[0], y, z)
     return None
+
+
+def repetitions(state, word):
+    """The states after 0, 1, 2, .. repetitions done one by one, each once, and the number of the one that recurs."""
+    found = {}
+    while state not in found:
+        found[state] = len(found)
+        state = call_all(state, word)
+    return list(found), found[state]
+
+
+def after_repetitions(state, word, many):
+    along, begin = repetitions(state, word)
+    return along[many] if many < len(along) else along[begin + (many - begin) % (len(along) - begin)]
+
+
+def first_words(state):
+    """For each future the least of the words that lead to it in the fewest calls, layer by layer."""
+    found = {state: []}
+    layer = {state: []}
+    while layer:
+        longer = sorted((layer[old] + [person], call(old, person)) for old in layer for person in range(len(old)))
+        layer = {}
+        for word, after in longer:
+            if after not in found and after not in layer:
+                layer[after] = word
+        found.update(layer)
+    return found
+
+
+def words_many(state, size):
+    """For each state how many words of so many calls lead to it, a list for the sizes 0 to size."""
+    counts = [{state: 1}]
+    for unused in range(size):
+        longer = {}
+        for old, many in counts[-1].items():
+            for person in range(len(old)):
+                after = call(old, person)
+                longer[after] = longer.get(after, 0) + many
+        counts.append(longer)
+    return counts

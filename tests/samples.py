@@ -69,6 +69,21 @@ def words_for(state, seed=7):
         yield [chosen.randrange(size) for at in range(length)]
 
 
+def few_called(people, chosen, most=12):
+    """A word of up to most calls of a few of the people."""
+    some = [chosen.choice(people) for unused in range(chosen.randint(1, 4))]
+    return [chosen.choice(some) for at in range(chosen.randint(0, most))]
+
+
+def spoked_state(lengths, spokes, size):
+    """Rings of these lengths, each with so many people who point at its least member, and roots up to the size."""
+    state = []
+    for length in lengths:
+        first = len(state)
+        state += [first + (at + 1) % length for at in range(length)] + [first] * spokes
+    return tuple(state + list(range(len(state), size)))
+
+
 def strangers(state):
     """Integers that are not among the people of a state."""
     size = len(state)

@@ -4,7 +4,7 @@ import copy
 import inspect
 import unittest
 
-from lookpast import calls, common, futures, kin, pasts, reach, rests, states, wishes
+from lookpast import calls, common, films, futures, kin, pasts, reach, repeats, rests, small, states, wishes
 from lookpast.errors import NoPerson
 from tests import samples
 
@@ -103,6 +103,35 @@ QUERIES = (
     (wishes.pointers_for, {"state": RING, "wish": (1, None, 0), "person": 3}),
     (wishes.forced, {"state": RING, "wish": (1, None, 2)}),
     (wishes.forced, {"state": RING, "wish": (None, None, None)}),
+    (repeats.repeated, {"state": (1, 0, 0), "word": [2], "many": 10 ** 12 - 1}),
+    (repeats.repeated, {"state": LINE, "word": [3, 2], "many": 1}),
+    (repeats.repeated, {"state": LINE, "word": [3, 4, 5], "many": 0}),
+    (repeats.settles, {"state": (1, 2, 0, 0), "word": [3, 3]}),
+    (repeats.settles, {"state": RING, "word": [-1]}),
+    (repeats.turning, {"state": (1, 2, 0, 0, 1), "word": [3, 3, 4]}),
+    (repeats.turning, {"state": RING, "word": [0, 1, 2, 3]}),
+    (repeats.first_time, {"state": (1, 2, 0, 0), "word": [3, 3], "person": 3, "target": 1}),
+    (repeats.first_time, {"state": LINE, "word": [3], "person": 3, "target": 0}),
+    (repeats.first_time, {"state": LINE, "word": [], "person": 3, "target": 1}),
+    (repeats.first_time, {"state": LINE, "word": [], "person": 4, "target": 5}),
+    (films.film_gap, {"film": [RING, (1, 0, 0), RING]}),
+    (films.film_gap, {"film": [RING, (1, 0, 0), (0, 0, 0)]}),
+    (films.film_gap, {"film": [RING, (1, 0, 0), (0, 0)]}),
+    (films.film_bar, {"film": [RING, (1, 0, 0), RING]}),
+    (films.film_bar, {"film": [RING]}),
+    (films.film_bar, {"film": [RING, (0,), (0, 0)]}),
+    (films.callers, {"state": RING, "later": (1, 0, 0)}),
+    (films.callers, {"state": (0, 0, 2), "later": (0, 0, 2)}),
+    (films.callers, {"state": RING, "later": (1, 0)}),
+    (small.all_futures, {"state": MIXED}),
+    (small.all_futures, {"state": samples.ring_state(40)}),
+    (small.distance, {"state": RING, "goal": (0, 0, 0)}),
+    (small.distance, {"state": (1, 0, 0), "goal": RING}),
+    (small.distance, {"state": samples.ring_state(40), "goal": samples.ring_state(40)}),
+    (small.first_word, {"state": MIXED, "goal": (1, 1, 1, 1)}),
+    (small.first_word, {"state": RING, "goal": (0, 0)}),
+    (small.words_many, {"state": MIXED, "goal": (1, 1, 1, 1), "size": 20}),
+    (small.words_many, {"state": samples.ring_state(6), "goal": (0,) * 6, "size": 1}),
 )
 
 
@@ -131,7 +160,7 @@ def outcome(function, *arguments, **named):
     """What a query returns or raises, with the kinds of all parts."""
     try:
         return kinds(function(*arguments, **named))
-    except (LookupError, ValueError, RuntimeError) as error:
+    except (LookupError, ValueError, RuntimeError, OverflowError) as error:
         return type(error), {name: kinds(value) for name, value in vars(error).items()}
 
 
@@ -200,6 +229,10 @@ class Arguments(unittest.TestCase):
         self.assertEqual(pasts.ring_past_number(both, both), 0)
         self.assertEqual(common.common_past(both, both), (1, 2, 0))
         self.assertEqual(wishes.granted(both, both), (1, 2, 0))
+        self.assertEqual(repeats.repeated(both, both, 1), (0, 0, 1))
+        self.assertEqual(films.film_gap([both, both]), None)
+        self.assertEqual(films.callers(both, both), [])
+        self.assertEqual(small.first_word(both, both), [])
         self.assertEqual(both, [1, 2, 0])
 
     def test_value_is_not_changed(self):
@@ -221,6 +254,9 @@ class Arguments(unittest.TestCase):
         self.assertIs(reach.is_word_to(MIXED, goal, reach.word_to(MIXED, goal)), True)
         self.assertIs(reach.is_obstacle(goal, MIXED, reach.obstacle(goal, MIXED)), True)
         self.assertEqual(wishes.forced(RING, wishes.forced(RING, (1, None, 2))), (1, 2, 2))
+        self.assertEqual(films.film_gap(small.all_futures(RING)[:1] + calls.states_along(RING, [0])), 0)
+        self.assertEqual(films.film_gap(calls.states_along(RING, small.first_word(RING, (2, 2, 2)))), None)
+        self.assertEqual(repeats.turning(MIXED, repeats.turning(MIXED, [2])), [2])
         past = pasts.ring_past_at(MIXED, pasts.ring_pasts_many(MIXED) - 1)
         self.assertEqual(common.common_past(past, past), past)
 
@@ -247,6 +283,10 @@ class Beyond(unittest.TestCase):
         self.assertEqual(pasts.ring_past_number((0,) * 60, state), 0)
         self.assertEqual(pasts.line_past_number((0,) * 60, samples.line_state(60)), pasts.line_pasts_many((0,) * 60) - 1)
         self.assertEqual(wishes.forced(state, state[:59] + (None,))[:59], state[:59])
+        self.assertEqual(repeats.settles(state, [7] * 250), (1, 1))
+        self.assertEqual(repeats.repeated((1, 0) + (0,) * 58, [2] * 251, 10 ** 13 + 1), (1, 0, 1) + (0,) * 57)
+        self.assertEqual(films.film_bar([state] * 60 + [(59,) * 60] * 2 + [state]), ("way", 0))
+        self.assertEqual(small.words_many((0,) * 60, (0,) * 60, 25), 60 ** 25)
 
 
 if __name__ == "__main__":

@@ -2,7 +2,9 @@
 
 import unittest
 
-from lookpast import calls, common, errors, futures, kin, pasts, reach, rests, states, wishes
+from lookpast import (
+    calls, common, errors, films, futures, kin, pasts, reach, repeats, rests, small, states, wishes,
+)
 from tests import samples, test_conventions
 
 EXAMPLES = {
@@ -114,8 +116,34 @@ EXAMPLES = {
     >>> forced(ring, (1, None, 2))
     (1, 2, 2)
 """,
+    13: """
+    >>> [repeated((1, 0, 0), [2], 5), repeated((1, 0, 0), [2], 10 ** 12)]
+    [(1, 0, 1), (1, 0, 0)]
+    >>> [settles((1, 0, 0), [2]), settles(line, [3, 2])]
+    [(0, 2), (2, 1)]
+    >>> turning((1, 0, 0), [2])
+    [2]
+    >>> [first_time((1, 0, 0), [2], 2, 1), first_time(line, [3], 3, 2), first_time(line, [], 3, 0)]
+    [1, 0, None]
+""",
+    14: """
+    >>> film_gap([(1, 2, 0), (1, 0, 0), (1, 2, 0)])
+    1
+    >>> film_bar([(1, 2, 0), (1, 0, 0), (1, 2, 0)])
+    ('way', 1)
+    >>> [callers(ring, (1, 0, 0)), callers((0, 0), (0, 0)), callers(ring, (0, 0, 0))]
+    [[1], [0, 1], []]
+""",
+    15: """
+    >>> all_futures((1, 0))
+    [(0, 0), (1, 0), (1, 1)]
+    >>> [distance(ring, (0, 0, 0)), first_word(ring, (0, 0, 0)), distance((1, 0, 0), ring)]
+    [2, [1, 0], None]
+    >>> [words_many(ring, (0, 0, 0), 2), words_many((0, 0), (0, 0), 3)]
+    [1, 8]
+""",
 }
-HOW_MANY = {4: 6, 5: 4, 6: 6, 7: 4, 8: 7, 9: 4, 10: 5, 11: 4, 12: 5}
+HOW_MANY = {4: 6, 5: 4, 6: 6, 7: 4, 8: 7, 9: 4, 10: 5, 11: 4, 12: 5, 13: 4, 14: 3, 15: 3}
 
 FUNCTIONS = {
     states: "is_state way person_after rings ring_of height components",
@@ -127,6 +155,9 @@ FUNCTIONS = {
     common: "future_bar common_future past_bar common_past",
     pasts: "ring_pasts_many ring_past_at ring_past_number line_pasts_many line_past_at line_past_number",
     wishes: "meets wish_obstacle granted pointers_for forced",
+    repeats: "repeated settles turning first_time",
+    films: "film_gap film_bar callers",
+    small: "all_futures distance first_word words_many",
 }
 
 PROMPT = ">>> "
@@ -156,7 +187,7 @@ def shown_error(error):
 def shown_outcome(expression):
     try:
         return repr(eval(expression, names()))
-    except (LookupError, ValueError, RuntimeError) as error:
+    except (LookupError, ValueError, RuntimeError, OverflowError) as error:
         return shown_error(error)
 
 
