@@ -3,12 +3,7 @@
 from lookpast.counting import factorial, number_in, product, sequence_at
 from lookpast.errors import NotPast
 from lookpast.reach import check_size, leads
-from lookpast.states import components, height, ring_of, rings, route_from, turned
-
-
-def state_of(pairs):
-    """Return the STATE of the pairs of each person and the one at whom they point."""
-    return tuple([target for person, target in sorted(pairs)])
+from lookpast.states import components, height, ring_of, rings, route_from, state_of, turned
 
 
 def ring_state(laps):

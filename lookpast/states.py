@@ -16,6 +16,11 @@ def is_state(value):
     return all([is_person(item, len(value)) for item in value])
 
 
+def state_of(pairs):
+    """Return the STATE of the pairs of each person and the one at whom they point."""
+    return tuple([target for person, target in sorted(pairs)])
+
+
 def check_person(state, person):
     """Raise NoPerson for an integer that is not one of the people."""
     if not 0 <= person < len(state):

@@ -4,7 +4,9 @@ import copy
 import inspect
 import unittest
 
-from lookpast import calls, common, films, futures, kin, pasts, reach, repeats, rests, small, states, wishes
+from lookpast import (
+    calls, common, desk, films, futures, kin, pasts, people, reach, repeats, rests, small, states, texts, wishes,
+)
 from lookpast.errors import NoPerson
 from tests import samples
 
@@ -132,6 +134,27 @@ QUERIES = (
     (small.first_word, {"state": RING, "goal": (0, 0)}),
     (small.words_many, {"state": MIXED, "goal": (1, 1, 1, 1), "size": 20}),
     (small.words_many, {"state": samples.ring_state(6), "goal": (0,) * 6, "size": 1}),
+    (people.renumbered, {"state": MIXED, "numbers": (3, 2, 1, 0)}),
+    (people.bypassed, {"state": MIXED, "person": 2}),
+    (people.bypassed, {"state": MIXED, "person": 4}),
+    (people.bypassed, {"state": LINE, "person": 0}),
+    (people.joined, {"one": MIXED, "other": RING}),
+    (people.part_of, {"state": PARTS, "person": 5}),
+    (people.part_of, {"state": PARTS, "person": 8}),
+    (texts.state_text, {"state": MIXED}),
+    (texts.word_text, {"word": [7, 0]}),
+    (texts.word_text, {"word": []}),
+    (texts.wish_text, {"wish": (None, 0, None)}),
+    (texts.state_in, {"text": "1 0 0 2"}),
+    (texts.state_in, {"text": "1 0 0 4"}),
+    (texts.word_in, {"text": "7 0"}),
+    (texts.word_in, {"text": "-"}),
+    (texts.word_in, {"text": "7 -"}),
+    (texts.wish_in, {"text": "? 0"}),
+    (texts.wish_in, {"text": "-"}),
+    (desk.answers, {"text": "1 2 0\nundo\ncall 1\nstate\ncall 3"}),
+    (desk.answers, {"text": "1 2 0"}),
+    (desk.answers, {"text": "1 2 0\ncall 1\n"}),
 )
 
 
@@ -205,6 +228,7 @@ class Arguments(unittest.TestCase):
                     result = function(**passed)
                     result.append("more")
                     result[0] = "other"
+                    self.assertIsNot(function(**passed), result)
                     self.assertEqual(outcome(function, **passed), expected)
 
     def test_later_changes_of_an_argument_do_not_reach_a_result(self):

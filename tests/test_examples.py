@@ -3,7 +3,8 @@
 import unittest
 
 from lookpast import (
-    calls, common, errors, films, futures, kin, pasts, reach, repeats, rests, small, states, wishes,
+    calls, circle, common, desk, errors, films, futures, kin, pasts, people, reach, repeats, rests, small, states, texts,
+    wishes,
 )
 from tests import samples, test_conventions
 
@@ -142,8 +143,52 @@ EXAMPLES = {
     >>> [words_many(ring, (0, 0, 0), 2), words_many((0, 0), (0, 0), 3)]
     [1, 8]
 """,
+    16: """
+    >>> renumbered((0, 0, 1), (2, 1, 0))
+    (1, 2, 2)
+    >>> bypassed(ring, 1)
+    (1, 0)
+    >>> joined((1, 0), (0,))
+    (1, 0, 2)
+    >>> part_of((0, 1, 0), 2)
+    (0, 0)
+""",
+    17: """
+    >>> Circle(ring).call(1)
+    0
+    >>> Circle(line).run([3, 1, 3])
+    2
+    >>> Circle((1, 0, 0)).repeat([2], 10 ** 12 - 1)
+    1
+    >>> Circle(ring).become((0, 0, 0))
+    2
+    >>> Circle(ring).come(1)
+    3
+    >>> Circle(ring).leave(1)
+    1
+    >>> Circle(ring).do([("call", 1), ("come",), ("leave", 2)])
+    [0, 3, 0]
+    >>> Circle(ring).do([("call", 1), ["call", 1]])
+    raises BadDeed(at=1)
+""",
+    18: """
+    >>> [repr(Circle(ring)), len(Circle(ring)), Circle(ring) == Circle([1, 2, 0])]
+    ['Circle(3 people)', 3, True]
+""",
+    19: """
+    >>> [state_text(ring), word_text([]), wish_text((None, 0))]
+    ['1 2 0', '-', '? 0']
+    >>> [state_in("1 2 0"), word_in("7 0"), wish_in("? 0")]
+    [(1, 2, 0), [7, 0], (None, 0)]
+    >>> state_in("1 2 3")
+    raises BadText(at=2)
+""",
+    20: r"""
+    >>> answers("1 2 0\ncall 1\nway 2\nleads 1 2 0\nmany\nrest 0\nundo\nnumber 1 0 0\nleave 7")
+    ['0', '0 1', 'way 1', '6', '1', 'done', '1', 'refused NoPerson']
+""",
 }
-HOW_MANY = {4: 6, 5: 4, 6: 6, 7: 4, 8: 7, 9: 4, 10: 5, 11: 4, 12: 5, 13: 4, 14: 3, 15: 3}
+HOW_MANY = {4: 6, 5: 4, 6: 6, 7: 4, 8: 7, 9: 4, 10: 5, 11: 4, 12: 5, 13: 4, 14: 3, 15: 3, 16: 4, 17: 8, 18: 1, 19: 3, 20: 1}
 
 FUNCTIONS = {
     states: "is_state way person_after rings ring_of height components",
@@ -158,6 +203,9 @@ FUNCTIONS = {
     repeats: "repeated settles turning first_time",
     films: "film_gap film_bar callers",
     small: "all_futures distance first_word words_many",
+    people: "renumbered bypassed joined part_of",
+    texts: "state_text word_text wish_text state_in word_in wish_in",
+    desk: "answers",
 }
 
 PROMPT = ">>> "
@@ -172,9 +220,9 @@ def examples(point):
 
 
 def names():
-    known = {"ring": samples.RING, "line": samples.LINE, "mixed": samples.MIXED}
-    for module in FUNCTIONS:
-        known.update(vars(module))
+    known = {"ring": samples.RING, "line": samples.LINE, "mixed": samples.MIXED, "Circle": circle.Circle}
+    for module, listed in FUNCTIONS.items():
+        known.update({name: getattr(module, name) for name in listed.split()})
     return known
 
 

@@ -254,11 +254,110 @@ class Code(unittest.TestCase):
                 if isinstance(statement, ast.ImportFrom):
                     self.assertLessEqual({alias.name for alias in statement.names}, used, path.name)
 
+    def test_escapes(self):
+        for path in sources():
+            for at, row in enumerate(path.read_text(encoding="ascii").split("\n"), start=1):
+                self.assertIsNone(re.search(r"""\\[^nt\\'"]""", row), f"{path.name}:{at}")
+
+    def test_stars_stand_before_names(self):
+        for place, node in nodes():
+            if isinstance(node, ast.Starred):
+                self.assertIsInstance(node.value, (ast.Name, ast.Attribute), place)
+            if isinstance(node, ast.keyword):
+                self.assertIsNotNone(node.arg, place)
+
+    def test_tables_have_no_lists_or_dicts_inside(self):
+        for path, tree in trees():
+            for statement in tree.body:
+                if isinstance(statement, ast.Assign):
+                    inside = list(ast.walk(statement.value))[1:]
+                    self.assertFalse([node for node in inside if isinstance(node, (ast.List, ast.Dict))], path.name)
+
+    def test_functions_of_a_table_are_called_by_a_name(self):
+        for place, node in nodes():
+            if isinstance(node, ast.Call):
+                self.assertIsInstance(node.func, (ast.Name, ast.Attribute), place)
+
     def test_methods(self):
         own = {node.name for place, node in nodes() if isinstance(node, ast.FunctionDef)}
         for place, node in nodes():
             if isinstance(node, ast.Call) and isinstance(node.func, ast.Attribute):
                 self.assertIn(node.func.attr, BUILTIN_METHODS | own, place)
+
+
+class Classes(unittest.TestCase):
+    def classes(self):
+        return [node for place, node in nodes() if isinstance(node, ast.ClassDef)]
+
+    def methods(self):
+        return {row.name for node in self.classes() for row in node.body if isinstance(row, ast.FunctionDef)}
+
+    def assigned(self):
+        found = [node for place, node in nodes() if isinstance(node, ast.Attribute)]
+        return {node.attr for node in found if isinstance(node.ctx, ast.Store)}
+
+    def test_no_name_is_a_method_and_an_attribute(self):
+        self.assertEqual(self.methods() & self.assigned(), set())
+
+    def test_names_are_not_those_of_builtin_values(self):
+        # L26 allows some of these names; none is needed so far.
+        builtin = set(dir(str)) | set(dir(list)) | set(dir(dict)) | set(dir(set)) | set(dir(bytes)) | set(dir(int))
+        allowed = {"__init__", "__len__", "__eq__", "__repr__"}
+        self.assertEqual((self.methods() | self.assigned()) & builtin, allowed)
+
+    def test_attributes_that_are_read_are_assigned(self):
+        for place, node, child in parents():
+            is_method = isinstance(node, ast.Call) and node.func is child
+            if isinstance(child, ast.Attribute) and isinstance(child.ctx, ast.Load) and not is_method:
+                self.assertIn(child.attr, self.assigned(), place)
+
+    def test_attributes_are_assigned_through_a_local_name(self):
+        for place, node in nodes():
+            if isinstance(node, ast.Attribute) and isinstance(node.ctx, ast.Store):
+                self.assertIsInstance(node.value, ast.Name, place)
+                self.assertTrue(node.value.id.islower(), place)
+
+    def test_bodies_have_methods_only(self):
+        for node in self.classes():
+            self.assertIsNotNone(ast.get_docstring(node), node.name)
+            for row in node.body[1:]:
+                self.assertIsInstance(row, ast.FunctionDef, node.name)
+                self.assertEqual(row.decorator_list, [], node.name)
+
+    def test_what_shows_and_counts_ends_with_its_return(self):
+        for place, node in nodes():
+            if isinstance(node, ast.FunctionDef) and node.name in DOUBLE_UNDERSCORES - {"__init__"}:
+                self.assertEqual([type(row) for row in node.body], [ast.Return], place)
+
+    def test_lists_are_not_sorted_in_place(self):
+        for place, node in nodes():
+            self.assertNotEqual(called_name(node), "sort", place)
+
+
+class Errors(unittest.TestCase):
+    def own_errors(self):
+        return {node.name for place, node in nodes() if isinstance(node, ast.ClassDef) and place.startswith("errors.py")}
+
+    def test_handlers_name_own_errors(self):
+        for place, node in nodes():
+            if isinstance(node, ast.ExceptHandler):
+                named = node.type.elts if isinstance(node.type, ast.Tuple) else [node.type]
+                self.assertTrue(named, place)
+                for name in named:
+                    self.assertIn(name.id, self.own_errors(), place)
+
+    def test_errors_are_created_where_they_are_raised(self):
+        bare = 0
+        for place, node in nodes():
+            if isinstance(node, ast.Raise) and node.exc is not None:
+                self.assertIsInstance(node.exc, ast.Call, place)
+                self.assertIn(node.exc.func.id, self.own_errors(), place)
+                self.assertIsNone(getattr(node.cause, "value", None), place)
+            bare += isinstance(node, ast.Raise) and node.exc is None
+        for place, node in nodes():
+            if isinstance(node, ast.ExceptHandler):
+                bare -= sum(isinstance(inside, ast.Raise) and inside.exc is None for inside in ast.walk(node))
+        self.assertEqual(bare, 0)
 
 
 if __name__ == "__main__":
